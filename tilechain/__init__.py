@@ -1,0 +1,1 @@
+"""Tilechain: tiles with two marked ends, laid end to end."""
