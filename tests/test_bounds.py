@@ -5,10 +5,23 @@ import unittest
 
 from tilechain.errors import NoMark, NoTile
 from tilechain.marks import counts, odd_marks, parts_of
+from tilechain.rows import fewest, one_ring, one_row, wanting
 from tilechain.tiles import begun_at, faces, flaw, is_ring
+from tilechain.turns import least_turned
 
 HIGH = 10 ** 60 - 1
 LOW = -HIGH
+
+ALL_TILES = (one_row, one_ring, fewest, wanting, least_turned)
+# A ring, a row that is none, odd marks, parts without and with odd marks, and no tiles.
+SETS_OF_TILES = (
+    [(3, 1), (2, 1), (2, 3), (3, 3), (1, 2), (1, 2)],
+    [(3, 1), (2, 1), (2, 3), (3, 1)],
+    [(1, 2), (1, 3), (1, 4)],
+    [(9, 9), (3, 1), (3, 1)],
+    [(3, 1), (2, 1), (2, 3), (9, 8), (9, 9), (3, 1)],
+    [],
+)
 
 
 def straight(count):
@@ -43,10 +56,25 @@ class MarksOfAnySizeTest(unittest.TestCase):
         self.assertEqual(odd_marks(self.tiles), [LOW + 1, 0])
         self.assertEqual(parts_of(self.tiles), [[LOW, -1, HIGH - 1, HIGH], [LOW + 1, 0]])
 
+    def test_rows_and_rings(self):
+        ring = self.tiles[:4]
+        self.assertIs(is_ring(ring, one_ring(ring)[1]), True)
+        self.assertIsNone(flaw(ring[:3], one_row(ring[:3])[1]))
+        self.assertEqual(one_ring(ring[:3]), ("odd", [LOW, HIGH - 1]))
+        self.assertEqual(sorted(wanting(ring[:3])[0]), [LOW, HIGH - 1])
+        self.assertEqual(one_row(self.tiles), ("parted", parts_of(self.tiles)))
+        self.assertEqual(len(fewest(self.tiles)), 2)
+        word, row, prices = least_turned(ring)
+        self.assertIs(is_ring(ring, row), True)
+        self.assertEqual([mark for mark, price in prices], [LOW, -1, HIGH - 1, HIGH])
+
     def test_marks_somewhat_beyond_are_not_refused(self):
-        tiles = [(10 ** 62, -(10 ** 62))]
-        self.assertEqual(faces(tiles, (0, True)), (-(10 ** 62), 10 ** 62))
-        self.assertEqual(parts_of(tiles), [[-(10 ** 62), 10 ** 62]])
+        beyond = 10 ** 62
+        tiles = [(beyond, -beyond)]
+        self.assertEqual(faces(tiles, (0, True)), (-beyond, beyond))
+        self.assertEqual(parts_of(tiles), [[-beyond, beyond]])
+        self.assertEqual(one_ring(tiles), ("odd", [-beyond, beyond]))
+        self.assertEqual(sum(turned for number, turned in least_turned(tiles * 2)[1]), 1)
 
 
 class NoTilesTest(unittest.TestCase):
@@ -131,6 +159,18 @@ class NothingIsChangedTest(unittest.TestCase):
             self.assert_unchanged(function, self.tiles)
             self.assert_unchanged(function, [])
 
+    def test_all_tiles(self):
+        for function in ALL_TILES:
+            for tiles in SETS_OF_TILES:
+                self.assert_unchanged(function, list(tiles))
+
+
+def lists_within(value):
+    found = [value] if isinstance(value, list) else []
+    for member in value if isinstance(value, (list, tuple)) else ():
+        found.extend(lists_within(member))
+    return found
+
 
 class EachListIsNewTest(unittest.TestCase):
     def setUp(self):
@@ -138,14 +178,17 @@ class EachListIsNewTest(unittest.TestCase):
 
     def assert_new(self, function, *given):
         told = function(*given)
-        wanted = copy.deepcopy(told)
-        for value in told:
-            if isinstance(value, list):
-                value.append("more")
-        told.append("more")
+        wanted = copy.deepcopy((told, given))
+        before = lists_within(told)
+        self.assertNotEqual(before, [])
+        for value in before:
+            value.append("more")
         again = function(*given)
-        self.assertEqual(again, wanted)
-        self.assertIsNot(again, told)
+        self.assertEqual((again, given), wanted)
+        known = [id(value) for value in before + lists_within(given)]
+        for value in lists_within(again):
+            self.assertNotIn(id(value), known)
+        self.assertEqual(len({id(value) for value in lists_within(again)}), len(lists_within(again)))
 
     def test_rings(self):
         ring = [(0, False), (1, True), (2, False)]
@@ -157,6 +200,11 @@ class EachListIsNewTest(unittest.TestCase):
         for function in (counts, odd_marks, parts_of):
             self.assert_new(function, self.tiles)
             self.assert_new(function, [])
+
+    def test_all_tiles(self):
+        for function in ALL_TILES:
+            for tiles in SETS_OF_TILES:
+                self.assert_new(function, list(tiles))
 
 
 if __name__ == "__main__":

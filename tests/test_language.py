@@ -92,6 +92,9 @@ class LanguageTest(unittest.TestCase):
             self.fail("a sign that is not among the rules")
         for node in self.nodes(ast.Constant):
             self.assertNotIsInstance(node.value, (float, complex, bytes))
+        for node in self.nodes(ast.ListComp):
+            self.assertEqual(len(node.generators), 1)
+            self.assertLessEqual(len(node.generators[0].ifs), 1)
 
     def test_functions_have_plain_parameters(self):
         for node in self.nodes((ast.FunctionDef, ast.Lambda)):
@@ -105,6 +108,34 @@ class LanguageTest(unittest.TestCase):
             self.assertTrue(node.module.startswith("tilechain."))
             for alias in node.names:
                 self.assertNotEqual(alias.name, "*")
+
+    def test_imports_come_from_the_file_that_defines_the_name(self):
+        for node in self.nodes(ast.ImportFrom):
+            text, tree = self.files[node.module.split(".")[1] + ".py"]
+            defined = [part.name for part in tree.body if isinstance(part, (ast.FunctionDef, ast.ClassDef))]
+            for alias in node.names:
+                self.assertIn(alias.name, defined)
+
+    def test_no_two_files_draw_from_one_another(self):
+        draws = {}
+        for name, (text, tree) in self.files.items():
+            modules = [node.module for node in tree.body if isinstance(node, ast.ImportFrom)]
+            draws[name] = {module.split(".")[1] + ".py" for module in modules}
+        while draws:
+            free = [name for name in draws if not draws[name] & set(draws)]
+            self.assertNotEqual(free, [], "files that draw from one another")
+            for name in free:
+                draws.pop(name)
+
+    def test_no_local_is_called_like_an_import_or_a_class(self):
+        for name, (text, tree) in self.files.items():
+            taken = {node.name for node in tree.body if isinstance(node, ast.ClassDef)}
+            for node in tree.body:
+                if isinstance(node, ast.ImportFrom):
+                    taken.update(alias.name for alias in node.names)
+            for function in ast.walk(tree):
+                if isinstance(function, ast.FunctionDef):
+                    self.assertEqual(taken.intersection(bound_names(function)), set(), name)
 
     def test_names(self):
         for name, (text, tree) in self.files.items():
